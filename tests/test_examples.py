@@ -1,0 +1,47 @@
+"""The examples of the document for the modules that are there."""
+
+import unittest
+
+from meantrace.checks import check
+from meantrace.codes import code_of
+from meantrace.errors import BadText, Dry
+from meantrace.plainruns import PlainRun
+from meantrace.reading import read_model
+from meantrace.shares import make_fraction
+from meantrace.tapes import is_complete
+from meantrace.writing import write_model
+
+
+class Examples(unittest.TestCase):
+    def test_fractions_and_tapes(self):
+        self.assertEqual(make_fraction(6, -4), (-3, 2))
+        self.assertIs(is_complete(2, ((0,), (1, 0), (1, 1))), True)
+
+    def test_texts(self):
+        text = ("model 2 streams s { process p at 0 { } cycle { draw s { at 0 { mark a ; } at 1 { } } "
+                "hold 1 ; } }")
+        self.assertEqual(read_model(text), ('model', 2, ('s',), (), (('process', 'p', 0, (), (('draw', 's', (((0,), (('mark', 'a'),)), ((1,), ()))), ('hold', 1))),)))
+        with self.assertRaises(BadText) as caught:
+            read_model('model 2 streams { } x')
+        self.assertEqual(caught.exception.at, 5)
+        self.assertEqual(write_model(('model', 3, (), (('store', 'bin', 0, 5),), ())),
+                         'model 3 streams {\nstore bin 0 of 5 ;\n}\n')
+
+    def test_check(self):
+        self.assertEqual(check(('model', 2, ('s',), (), (('process', 'p', 0, (), (('draw', 's', (((0,), (('mark', 'a'),)), ((1,), ()))), ('hold', 1))),))), (9,))
+
+    def test_runs(self):
+        run = PlainRun(('model', 2, ('s',), (), (('process', 'p', 0, (), (('draw', 's', (((0,), (('mark', 'a'),)), ((1,), ()))), ('hold', 1))),)), ((0, 1),))
+        self.assertEqual(run.tick(), ((0, 'p', 'wake', '', 0), (0, 'p', 'draw', 's', 0), (0, 'p', 'mark', 'a', 0), (0, 'p', 'hold', '', 1)))
+        run = PlainRun(('model', 2, ('s',), (), (('process', 'p', 0, (), (('draw', 's', (((0,), (('mark', 'a'),)), ((1,), ()))), ('hold', 1))),)), ((),))
+        with self.assertRaises(Dry) as caught:
+            run.tick()
+        self.assertEqual(caught.exception.name, 's')
+
+    def test_code(self):
+        self.assertEqual(code_of(('model', 2, ('s',), (), (('process', 'p', 0, (), (('draw', 's', (((0,), (('mark', 'a'),)), ((1,), ()))), ('hold', 1))),))),
+                         ((('wait', 0), ('draw', 's', (2, 4)), ('mark', 'a'), ('jump', 4), ('hold', 1), ('jump', 1)),))
+
+
+if __name__ == "__main__":
+    unittest.main()
