@@ -48,10 +48,8 @@ class Walker:
 
     def draw(self, digit):
         """Enter the body of the arm with this digit."""
-        for number, (digits, _) in enumerate(self.statement[2]):
-            if digit in digits:
-                return self.enter(number, 0)
-        return []
+        numbers = [number for number, arm in enumerate(self.statement[2]) if digit in arm[0]]
+        return self.enter(numbers[0], 0)
 
     def get_unit(self):
         """Enter the first body of a `use`."""

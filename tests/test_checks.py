@@ -343,6 +343,10 @@ class Sizes(unittest.TestCase):
         self.assertEqual(of_statement(nested(6, ("hold", 0))), (BadNumber, 0))
         self.assertEqual(of_statement(nested(18, ("hold", 0))), (TooLarge, "depth"))
 
+    def test_depth_in_the_cycle(self):
+        self.assertEqual(fault(tree((), cycle=(nested(6, ("hold", 1)),))), (1 + 2 * (6 + 2),))
+        self.assertEqual(fault(tree((), cycle=(nested(7, ("hold", 1)),))), (TooLarge, "depth"))
+
     def test_all_statements_with_bodies_count_for_the_depth(self):
         inner = MARK
         for wrap in (

@@ -93,6 +93,14 @@ class Judge(unittest.TestCase):
         row = (0, "p", "draw", "t", 0)
         self.assertFalse(self.takes((*self.trace[:at], row, *self.trace[at + 1:])))
 
+    def test_draws_with_strange_digits_beside_the_right_ones(self):
+        for at, event in enumerate(self.trace):
+            if event[2] == "draw":
+                for digit in (-1, 3, 10 ** 399):
+                    row = (*event[:4], digit)
+                    self.assertFalse(self.takes((*self.trace[:at], row, *self.trace[at:])))
+                    self.assertFalse(self.takes((*self.trace[:at + 1], row, *self.trace[at + 1:])))
+
     def test_strange_events(self):
         for row in ((0, "", "", "", 0), (10 ** 399, "p", "draw", "nobody", 7), (0, "p", "draw", "c", 0),
                     (-5, "p", "draw", "u", 0), (0, "p", "draw", "u", 5)):

@@ -90,6 +90,23 @@ class Places(unittest.TestCase):
             (("asking", 0, ((0, 0, 0), (1, 0, 1), (0, 0, 0), (0, -1, 0))),),
         ])
 
+    def test_bodies_that_are_none_of_a_loop_have_no_turns(self):
+        hold = "hold 1 ;"
+        rows = {
+            f"if counter k 0 {{ {hold} }}": (0, 0), f"if counter k 5 {{ }} else {{ {hold} }}": (0, 1),
+            f"use r rank 0 {{ {hold} }}": (0, 0), f"guard {{ {hold} }} handle {{ }}": (0, 0),
+            f"draw s {{ at 1 {{ }} at 0 {{ {hold} }} }}": (0, 1),
+            f"guard {{ interrupt p ; }} handle {{ {hold} }}": (0, 1),
+        }
+        for text, (k, b) in rows.items():
+            run = PlainRun.of(f"""model 2 streams s {{ resource r plan 1 for 9 ; counter k 0 of 9 ;
+                process p at 0 {{ {text} }} cycle {{ hold 1 ; {text} }} }}""", ((0,) * 9,))
+            run.tick()
+            self.assertEqual(run.state[2], (("held", 0, ((0, 0, 0), (k, b, 0), (0, -1, 0))),))
+            run.tick()
+            run.tick()
+            self.assertEqual(run.state[2], (("held", 0, ((0, 1, 0), (k + 1, b, 0), (0, -1, 0))),))
+
     def test_done_has_no_place(self):
         text = "model 2 streams { process p at 0 { mark a ; } cycle { } }"
         self.assertEqual(self.places(text, 1), [(("done", 0, ()),)])

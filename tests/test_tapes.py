@@ -59,6 +59,11 @@ class Tapes(unittest.TestCase):
         # Weights with the sum 1 are not enough.
         self.assertIs(is_complete(2, ((0,), (0, 0), (0, 1))), False)
 
+    def test_strange_digits_and_tapes_that_stand_twice(self):
+        for tapes in (((0,), (2,)), ((0,), (1,), (2,)), ((-1,), (0,), (1,)), ((-1,), (0,)),
+                      ((0,), (1,), (1,)), ((), ()), ((0, 0), (0, 1), (0, 2), (1,))):
+            self.assertIs(is_complete(2, tapes), False)
+
     def test_random_sets_in_any_order(self):
         dice = random.Random(5)
         for _ in range(200):
