@@ -39,10 +39,14 @@ class Floor:
         number = self.layout.resource_numbers[name]
         self.queues[number] = [pair for pair in self.queues[number] if pair[1] != process]
 
+    def is_first(self, name, process):
+        """Whether a process in the queue is the first one."""
+        return self.queues[self.layout.resource_numbers[name]][0][1] == process
+
     def is_served(self, name, process):
         """Whether a process in the queue is the first one, and a unit is free."""
         number = self.layout.resource_numbers[name]
-        return self.queues[number][0][1] == process and self.free_units(number) >= 1
+        return self.is_first(name, process) and self.free_units(number) >= 1
 
     def is_blocked(self, statement):
         """Whether a statement has to wait for room or for things."""
@@ -91,6 +95,14 @@ class Floor:
         number = self.layout.belt_numbers[name]
         self.belts[number] = self.belts[number][1:]
 
+    def receive(self, name, many):
+        """So many things come behind the others of a belt, with 0 left."""
+        self.belts[self.layout.belt_numbers[name]].extend([0 for _ in range(many)])
+
+    def empty_belt(self, name):
+        """All things leave a belt."""
+        self.belts[self.layout.belt_numbers[name]] = []
+
     def change_count(self, name, n):
         """A counter changes by n, as far as it can; return its new value."""
         number = self.layout.counter_numbers[name]
@@ -110,12 +122,30 @@ class Floor:
             return len(self.belts[self.layout.belt_numbers[name]])
         return self.counts[self.layout.counter_numbers[name]]
 
-    def pass_time(self):
-        """A tick goes by for plans and belts."""
+    def wait_for_unit(self, name):
+        """How many ticks go by before a unit is free, if no process moves; None if none will be."""
+        number = self.layout.resource_numbers[name]
+        units = self.layout.units[number]
+        for ticks in range(len(units)):
+            if units[(self.phases[number] + ticks) % len(units)] > self.busy[number]:
+                return ticks
+        return None
+
+    def wait_at(self, statement):
+        """How many ticks a statement has to wait, if no process moves; None if it waits for one."""
+        if not self.is_blocked(statement):
+            return 0
+        if statement[0] != "unload":
+            return None
+        belt = self.belts[self.layout.belt_numbers[statement[1]]]
+        return belt[0] if belt else None
+
+    def pass_time(self, ticks):
+        """So many ticks go by for plans and belts."""
         units = self.layout.units
         for number in range(len(units)):
-            self.phases[number] = (self.phases[number] + 1) % len(units[number])
-        self.belts = [[max(0, left - 1) for left in belt] for belt in self.belts]
+            self.phases[number] = (self.phases[number] + ticks) % len(units[number])
+        self.belts = [[max(0, left - ticks) for left in belt] for belt in self.belts]
 
     def frame(self):
         """The values of all gauges."""

@@ -24,5 +24,5 @@ def moved(model, state, tick, digit):
 def passed(model, state):
     """The state behind the passing of time."""
     world = plain_world(Layout(model), state)
-    world.pass_time()
+    world.pass_time(1)
     return world.frozen()

@@ -1,10 +1,10 @@
 """Plain runs."""
 
 from meantrace.checks import check
-from meantrace.errors import Dry
 from meantrace.layouts import Layout
 from meantrace.reading import read_model
 from meantrace.states import start_state
+from meantrace.ticking import run_tick
 from meantrace.trials import Trial
 from meantrace.worlds import plain_world
 
@@ -58,25 +58,9 @@ class PlainRun:
         """Do a tick; return its events."""
         clock, reads, state = self.now
         world = plain_world(self.layout, state)
-        done = list(reads)
-        events, number = world.move_to_draw(clock)
-        while number is not None:
-            digit = self.next_digit(world.stream_at(number), done)
-            events.extend(world.move(number, clock, digit))
-            more, number = world.move_to_draw(clock)
-            events.extend(more)
-        world.pass_time()
-        self.now = (clock + 1, tuple(done), world.frozen())
-        return tuple(events)
-
-    def next_digit(self, stream, done):
-        """Read a digit of a stream, of whose tape so many are read; count it there."""
-        number = self.layout.stream_numbers[stream]
-        at = done[number]
-        if at >= len(self.tapes[number]):
-            raise Dry(stream)
-        done[number] = at + 1
-        return self.tapes[number][at]
+        events, done = run_tick(world, self.tapes, clock, reads)
+        self.now = (clock + 1, done, world.frozen())
+        return events
 
     def played(self, n):
         """Do n ticks, each when its events are asked for."""

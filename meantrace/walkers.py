@@ -1,9 +1,10 @@
 """A process of a plain run, on the statements of its tree."""
 
 from meantrace.bodies import body_of
+from meantrace.goers import Goer
 
 
-class Walker:
+class Walker(Goer):
     """A process while a tick is under way.
 
     Beside each entry of its place stands, in the trail, the body whose statement the entry tells.
@@ -11,12 +12,10 @@ class Walker:
     """
 
     def __init__(self, number, process, point):
-        self.number = number
-        self.name = process[1]
-        self.mode, self.left, place = point
+        mode, left, place = point
+        super().__init__(number, process[1], mode, left)
         self.place = list(place)
         self.trail = trail_of(process, place)
-        self.statement = None
         self.look()
 
     def look(self):
@@ -29,16 +28,6 @@ class Walker:
     def point(self):
         """The point of the process in a state."""
         return (self.mode, self.left, tuple(self.place))
-
-    def wait(self, mode, left):
-        """The process stays at its statement in this mode."""
-        self.mode = mode
-        self.left = left
-
-    def pass_time(self):
-        """A tick goes by."""
-        if self.mode in ("held", "asking") and self.left > 0:
-            self.left -= 1
 
     def wake_up(self):
         """Go on from a `hold`, or begin."""

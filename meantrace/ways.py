@@ -21,7 +21,7 @@ def ways(model, state):
         more, reader = world.move_to_draw(0)
         told.extend(more)
         if reader is None:
-            world.pass_time()
+            world.pass_time(1)
             found.append((digits, tuple(told), world.frozen()))
         else:
             branches.extend(branches_at(layout.base, digits, tuple(told), world.frozen()))

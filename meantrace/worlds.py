@@ -1,5 +1,6 @@
 """A whole run while a tick is under way."""
 
+from meantrace.flatwalkers import FlatWalker
 from meantrace.floors import Floor
 from meantrace.steps import step
 from meantrace.walkers import Walker
@@ -77,13 +78,41 @@ class World:
         """Nothing moves any more."""
         self.ended = 1
 
-    def pass_time(self):
-        """A tick goes by, if the run has not ended."""
+    def quiet_ticks(self):
+        """How many ticks go by before some process can move; None if none ever can."""
+        if self.ended:
+            return None
+        waits = [self.wait_of(walker) for walker in self.walkers]
+        return min([wait for wait in waits if wait is not None], default=None)
+
+    def wait_of(self, walker):
+        """How many ticks go by before a process can move, if no other one does, or None."""
+        if walker.mode == "ready":
+            return self.floor.wait_at(walker.statement)
+        if walker.mode == "held":
+            return walker.left
+        if walker.mode == "asking":
+            return self.wait_in_queue(walker)
+        return 0 if walker.mode == "broken" else None
+
+    def wait_in_queue(self, walker):
+        """How many ticks go by before a process leaves its queue, or None."""
+        patience = walker.left if walker.left >= 0 else None
+        name = walker.statement[1]
+        if not self.floor.is_first(name, walker.number):
+            return patience
+        wait = self.floor.wait_for_unit(name)
+        if patience is None or wait is None:
+            return wait if patience is None else patience
+        return min(patience, wait)
+
+    def pass_time(self, ticks):
+        """So many ticks go by, if the run has not ended."""
         if self.ended:
             return
-        self.floor.pass_time()
+        self.floor.pass_time(ticks)
         for walker in self.walkers:
-            walker.pass_time()
+            walker.pass_time(ticks)
 
 
 def plain_world(layout, state):
@@ -91,4 +120,12 @@ def plain_world(layout, state):
     walkers = []
     for number, process in enumerate(layout.processes):
         walkers.append(Walker(number, process, state[2][number]))
+    return World(layout, state, walkers)
+
+
+def flat_world(layout, codes, state):
+    """The world of a flat state."""
+    walkers = []
+    for number, process in enumerate(layout.processes):
+        walkers.append(FlatWalker(number, process[1], codes[number], state[2][number]))
     return World(layout, state, walkers)

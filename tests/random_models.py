@@ -130,6 +130,164 @@ class Maker:
         return ("draw", self.dice.choice(self.streams), tuple(arms))
 
 
+def random_queues(seed):
+    """A model whose processes stand in queues under guard, and interrupt each other."""
+    dice = random.Random(seed)
+    names = PROCESSES[:dice.randint(2, 4)]
+    items = tuple(("resource", name, ((dice.randint(0, 1), dice.randint(1, 4)), (dice.randint(0, 2), dice.randint(1, 4))))
+                  for name in ("r1", "r2"))
+    processes = []
+    for name in names:
+        patience = dice.choice((None, 3, 5))
+        inner = (("hold", dice.randint(1, 4)), ("use", "r2", 0, None, (("hold", 1),), ()))[:dice.randint(0, 2)]
+        asking = ("use", dice.choice(("r1", "r2")), dice.randint(0, 2), patience, inner, ())
+        handler = (("mark", "h"),) if dice.random() < 0.5 else (asking,)
+        cycle = (("guard", (asking,), handler), ("hold", dice.randint(1, 2)), ("interrupt", dice.choice(names)))
+        processes.append(("process", name, dice.randint(0, 2), (), cycle))
+    model = ("model", 2, (), items, tuple(processes))
+    check(model)
+    return model
+
+
+class HouseMaker(Maker):
+    """Makes a model and the houses that cut it: items and streams of their own, and links."""
+
+    def __init__(self, seed):
+        super().__init__(seed)
+        dice = self.dice
+        self.many = dice.randint(1, 3)
+        self.houses = list(range(self.many)) + [dice.randrange(self.many) for _ in range(dice.randint(0, 3))]
+        dice.shuffle(self.houses)
+        self.all_names = ("p", "q", "w", "v", "x", "y")[:len(self.houses)]
+        self.owners = {name: dice.randrange(self.many) for name in ("s", "t")}
+        self.links = {}
+        self.all_items = self.items[:5]
+        for item in self.all_items:
+            self.owners[item[1]] = dice.randrange(self.many)
+        for number in range(dice.randint(1, 3) if self.many > 1 else 0):
+            name = f"l{number}"
+            source, goal = dice.sample(range(self.many), 2)
+            self.links[name] = (source, goal)
+            self.all_items += (("belt", name, dice.randint(1, 4), None),)
+        items = list(self.all_items)
+        dice.shuffle(items)
+        self.all_items = tuple(items)
+
+    def settle_in(self, house):
+        self.house = house
+        self.names = [name for name, other in zip(self.all_names, self.houses) if other == house]
+        self.streams = [name for name in ("s", "t") if self.owners[name] == house]
+        self.items = [item for item in self.all_items if self.owners.get(item[1]) == house]
+
+    def simple(self, word):
+        side = {"load": 0, "unload": 1}.get(word)
+        if side is not None and self.dice.random() < 0.8:
+            names = [name for name, ends in self.links.items() if ends[side] == self.house]
+            if names:
+                return (word, self.dice.choice(names))
+        return super().simple(word)
+
+    def statement(self, depth):
+        made = super().statement(depth)
+        return ("stop",) if made == ("end",) and self.many > 1 else made
+
+    def on_links(self):
+        """Statements that use the links of the house, so that things do go from house to house."""
+        rows = [("load", name) for name, (source, _) in self.links.items() if source == self.house]
+        rows += [("unload", name) for name, (_, goal) in self.links.items() if goal == self.house]
+        return [row for row in rows if self.dice.random() < 0.6]
+
+    def cut(self):
+        processes = []
+        for name, house in zip(self.all_names, self.houses):
+            self.settle_in(house)
+            self.left = self.dice.randint(2, 10)
+            once = self.body(1)
+            cycle = (*self.body(1), *self.on_links(), ("hold", self.dice.randint(1, 3)))
+            processes.append(("process", name, self.dice.randint(0, 3), once, cycle))
+        model = ("model", self.base, ("s", "t"), self.all_items, tuple(processes))
+        return model, tuple(self.houses)
+
+
+def random_houses(seed):
+    """The first model from this seed on that is let, and the houses that cut it."""
+    while True:
+        model, houses = HouseMaker(seed).cut()
+        try:
+            check(model)
+        except MeanError:
+            seed += 1000003
+        else:
+            return model, houses
+
+
+def random_change(model, seed):
+    """A changed model: some statements, numbers of items or starts differ, at random."""
+    dice = random.Random(seed)
+    while True:
+        changed = changed_once(model, dice)
+        try:
+            check(changed)
+        except MeanError:
+            continue
+        return changed
+
+
+def changed_once(model, dice):
+    word, base, streams, items, processes = model
+    items, processes = list(items), list(processes)
+    kind = dice.random()
+    if kind < 0.1 and items:
+        at = dice.randrange(len(items))
+        item = list(items[at])
+        if item[0] == "resource":
+            item[2] = tuple((dice.choice((units, 1)), ticks) for units, ticks in item[2])
+        elif item[0] == "belt":
+            item[2] = dice.randint(1, 4)
+        else:
+            item[3] = dice.randint(1, 9)
+        items[at] = tuple(item)
+    elif kind < 0.15:
+        at = dice.randrange(len(processes))
+        process = list(processes[at])
+        process[2] = dice.randint(0, 3)
+        processes[at] = tuple(process)
+    else:
+        at = dice.randrange(len(processes))
+        process = list(processes[at])
+        which = dice.choice((3, 4))
+        process[which] = changed_body(process[which], dice)
+        processes[at] = tuple(process)
+    return (word, base, streams, tuple(items), tuple(processes))
+
+
+def changed_body(body, dice):
+    """A body in which something was put in, left out, or changed, here or inside."""
+    rows = list(body)
+    at = dice.randint(0, len(rows))
+    kind = dice.random()
+    if at == len(rows) or kind < 0.2:
+        rows.insert(at, ("mark", dice.choice("xyz")))
+    elif kind < 0.3:
+        rows.pop(at)
+    elif rows[at][0] == "hold":
+        rows[at] = ("hold", dice.randint(1, 4))
+    elif rows[at][0] == "mark":
+        rows[at] = ("mark", dice.choice("xyz"))
+    elif rows[at][0] == "loop":
+        rows[at] = ("loop", dice.randint(1, 3), changed_body(rows[at][2], dice))
+    elif rows[at][0] in ("use", "if", "guard"):
+        which = dice.choice((-2, -1))
+        if rows[at][0] != "use" or rows[at][3] is not None or which == -2:
+            parts = list(rows[at])
+            parts[which] = changed_body(parts[which], dice)
+            rows[at] = tuple(parts)
+    elif rows[at][0] == "draw":
+        arms = [(digits, changed_body(inner, dice)) for digits, inner in rows[at][2]]
+        rows[at] = (*rows[at][:2], tuple(arms))
+    return tuple(rows)
+
+
 def random_model(seed):
     """The first model from this seed on that is let."""
     while True:

@@ -2,10 +2,13 @@
 
 import unittest
 
+from meantrace.batches import warm_up
+from meantrace.chainof import chain_of
 from meantrace.checks import check
 from meantrace.codes import code_of
 from meantrace.errors import BadText, Dry
 from meantrace.plainruns import PlainRun
+from meantrace.plainvalues import write_value
 from meantrace.reading import read_model
 from meantrace.shares import make_fraction
 from meantrace.tapes import is_complete
@@ -41,6 +44,14 @@ class Examples(unittest.TestCase):
     def test_code(self):
         self.assertEqual(code_of(('model', 2, ('s',), (), (('process', 'p', 0, (), (('draw', 's', (((0,), (('mark', 'a'),)), ((1,), ()))), ('hold', 1))),))),
                          ((('wait', 0), ('draw', 's', (2, 4)), ('mark', 'a'), ('jump', 4), ('hold', 1), ('jump', 1)),))
+
+    def test_values_and_warm_up(self):
+        self.assertEqual(write_value((1, 'a', None, ())), '(1,"a",none,())')
+        self.assertEqual(warm_up((9, 1, 1, 1)), 1)
+
+    def test_chain(self):
+        self.assertEqual(chain_of(('model', 2, ('s',), (), (('process', 'p', 0, (), (('draw', 's', (((0,), (('mark', 'a'),)), ((1,), ()))), ('hold', 1))),))),
+                         ('chain', 2, ((((0,), ('a',), 1), ((1,), (), 1)), (((0,), ('a',), 1), ((1,), (), 1)))))
 
 
 if __name__ == "__main__":

@@ -26,6 +26,30 @@ FUNCTIONS = {
     "replays": {"tapes_of": "model trace", "judge_trace": "model ticks trace"},
     "scenes": {"scenes_of": "frames", "frames_of": "scenes many ticks"},
     "codes": {"code_of": "model"},
+    "tighten": {"tightened": "code"},
+    "tallies": {
+        "tally_of": "values", "joined": "tally other", "mean_of": "tally", "spread_of": "tally",
+        "gauge_tally": "frames gauge a b",
+    },
+    "traced": {"traced_tally": "model trace gauge a b"},
+    "visits": {
+        "visits": "trace resource ticks", "stays": "trace resource ticks", "rides": "trace belt ticks",
+        "overlap": "rows a b",
+    },
+    "batches": {
+        "batches": "values length", "spread_within": "tallies", "spread_between": "tallies", "warm_up": "values",
+    },
+    "houses": {"house_models": "model houses", "links_of": "model houses"},
+    "joining": {"join_events": "model rows"},
+    "plainvalues": {"write_value": "value", "read_value": "text"},
+    "touches": {"is_changed": "elder model", "first_touch": "elder model tapes ticks"},
+    "renewing": {
+        "records": "model houses tapes ticks", "renewed": "elder model houses tapes records ticks",
+    },
+    "chains": {"is_chain": "chain", "walk": "chain tape ticks"},
+    "chainof": {"states_of": "model", "chain_of": "model"},
+    "leaves": {"tree": "chain n"},
+    "webs": {"is_web": "web", "web_of": "chain"},
 }
 METHODS = {
     ("errors", "BadText"): {"__init__": "self at"},
@@ -44,8 +68,33 @@ METHODS = {
         "clock": "self", "reads": "self", "state": "self", "snapshot": "self value",
         "resume": "self snapshot", "trial": "self", "tried": "self n", "fork": "self tapes",
     },
+    ("flatruns", "FlatRun"): {
+        "__init__": "self model codes tapes", "tick": "self", "played": "self n", "clock": "self", "reads": "self",
+        "state": "self", "snapshot": "self value", "resume": "self snapshot", "trial": "self", "tried": "self n",
+        "frame": "self",
+    },
+    ("calendars", "CalendarRun"): {
+        "__init__": "self model codes tapes", "leap": "self limit", "clock": "self", "reads": "self",
+        "snapshot": "self value", "resume": "self snapshot", "frame": "self",
+    },
+    ("ahead", "AheadRun"): {
+        "__init__": "self model houses tapes", "go": "self house", "trace_below": "self n", "clocks": "self",
+        "final": "self",
+    },
+    ("guesses", "GuessRun"): {
+        "__init__": "self model houses tapes", "go": "self house", "bring": "self k", "trace_below": "self n",
+        "clocks": "self", "under_way": "self", "final": "self",
+    },
+    ("keeping", "KeptRun"): {
+        "__init__": "self model tapes every", "trace_to": "self n", "change": "self model", "redraw": "self tapes",
+        "known": "self", "work": "self",
+    },
 }
-PROPERTIES = ("clock", "reads", "state", "snapshot")
+PROPERTIES = {
+    "PlainRun": ("clock", "reads", "state", "snapshot"), "FlatRun": ("clock", "reads", "state", "snapshot"),
+    "CalendarRun": ("clock", "reads", "snapshot"), "AheadRun": ("clocks", "final"),
+    "GuessRun": ("clocks", "under_way", "final"), "KeptRun": ("known", "work"),
+}
 
 
 def arguments(node):
@@ -78,11 +127,21 @@ class Interface(unittest.TestCase):
                 self.assertEqual(defined.get(method), words, method)
 
     def test_properties(self):
+        from meantrace.ahead import AheadRun
+        from meantrace.calendars import CalendarRun
+        from meantrace.flatruns import FlatRun
+        from meantrace.guesses import GuessRun
+        from meantrace.keeping import KeptRun
         from meantrace.plainruns import PlainRun
-        for name in PROPERTIES:
-            self.assertIsInstance(vars(PlainRun)[name], property)
-        self.assertIsNotNone(vars(PlainRun)["snapshot"].fset)
+        for kind in (PlainRun, FlatRun, CalendarRun, AheadRun, GuessRun, KeptRun):
+            for name in PROPERTIES[kind.__name__]:
+                self.assertIsInstance(vars(kind)[name], property)
+        for kind in (PlainRun, FlatRun, CalendarRun):
+            self.assertIsNotNone(vars(kind)["snapshot"].fset)
         self.assertIsInstance(vars(PlainRun)["of"], classmethod)
+        self.assertTrue(issubclass(CalendarRun, FlatRun))
+        for name in ("tick", "played", "state", "trial", "tried"):
+            self.assertTrue(hasattr(CalendarRun, name))
 
     def test_values_are_tuples(self):
         from helpers import let
@@ -100,12 +159,78 @@ class Interface(unittest.TestCase):
         rows = [model, start_state(model), ways(model, start_state(model)), run.tick(), run.snapshot,
                 run.tried(3), gauges(model), gauge_values(model, run.state), code_of(model),
                 history(model, ((0, 1),), ticks=3), scenes_of(history(model, ((0,),), ticks=3)[0])]
+        self.assert_plain(rows)
+
+    def assert_plain(self, rows):
+        """Values are tuples, nested, of integers, strings and None."""
         while rows:
             value = rows.pop()
             if isinstance(value, tuple):
                 rows.extend(value)
             else:
                 self.assertIn(type(value), (int, str, type(None)))
+
+    def test_values_of_other_runs_and_of_statistics_are_tuples(self):
+        from helpers import let
+        from meantrace.ahead import AheadRun
+        from meantrace.batches import batches, spread_between, spread_within, warm_up
+        from meantrace.calendars import CalendarRun
+        from meantrace.chainof import chain_of, states_of
+        from meantrace.chains import walk
+        from meantrace.codes import code_of
+        from meantrace.flatruns import FlatRun
+        from meantrace.guesses import GuessRun
+        from meantrace.histories import history
+        from meantrace.houses import house_models, links_of
+        from meantrace.keeping import KeptRun
+        from meantrace.leaves import tree
+        from meantrace.renewing import records, renewed
+        from meantrace.tallies import gauge_tally, joined, mean_of, spread_of
+        from meantrace.tighten import tightened
+        from meantrace.touches import first_touch
+        from meantrace.traced import traced_tally
+        from meantrace.visits import overlap, rides, stays, visits
+        from meantrace.webs import web_of
+        model = let("""model 2 streams s { resource r plan 1 for 2 ; belt b length 1 ; store c 1 of 2 ;
+            process p at 0 { draw s { at 0 1 { } } loop 2 { load b ; } guard { } handle { } if store c 1 { } }
+            cycle { use r rank 0 { hold 3 ; } } process q at 0 { unload b ; } cycle { hold 1 ; } }""")
+        tapes, houses, codes = ((0, 1),), (0, 1), code_of(model)
+        frames, trace = history(model, tapes, ticks=6)
+        flat, leaping = FlatRun(model, codes, tapes), CalendarRun(model, codes, tapes)
+        tally = gauge_tally(frames, 0, 0, 6)
+        rows = [tuple(tightened(code) for code in codes), flat.tick(), flat.snapshot, flat.frame(), flat.tried(2),
+                leaping.leap(5), leaping.snapshot, leaping.frame(), leaping.leap(1), tally, joined(tally, tally), mean_of(tally),
+                spread_of(tally), traced_tally(model, trace, ("queue", "r"), 1, 5), visits(trace, "r", 6), stays(trace, "r", 6),
+                rides(trace, "b", 6), overlap(visits(trace, "r", 6), 0, 6), batches((1, 2), 1), spread_within((tally,)),
+                spread_between((tally,)), warm_up((1,)), house_models(model, houses), links_of(model, houses)]
+        self.assert_plain(rows)
+        ahead, guess, kept = AheadRun(model, houses, tapes), GuessRun(model, houses, tapes), KeptRun(model, tapes, 2)
+        ahead.go(0)
+        ahead.go(1)
+        rows = [ahead.clocks, ahead.final, ahead.trace_below(1), guess.go(0), guess.under_way, guess.go(1), guess.clocks,
+                guess.final, guess.trace_below(1), kept.trace_to(3), kept.known, kept.work, kept.change(model), kept.redraw(tapes)]
+        told = records(model, houses, tapes, 5)
+        chain = chain_of(model)
+        rows += [told, renewed(model, model, houses, tapes, told, 5), first_touch(model, model, tapes, 2), chain,
+                 states_of(model), walk(chain, (0, 1), 2), tree(chain, 2), web_of(chain)]
+        self.assert_plain(rows)
+
+    def test_bools_are_bools(self):
+        from helpers import let
+        from meantrace.ahead import AheadRun
+        from meantrace.chains import is_chain
+        from meantrace.guesses import GuessRun
+        from meantrace.touches import is_changed
+        from meantrace.webs import is_web
+        model = let("""model 2 streams { belt b length 1 ; process p at 0 { load b ; } cycle { }
+            process q at 0 { unload b ; } cycle { } }""")
+        ahead, guess = AheadRun(model, (0, 1), ()), GuessRun(model, (0, 1), ())
+        self.assertEqual([ahead.go(0), ahead.go(1), ahead.go(1), ahead.go(1)], [True, True, True, False])
+        guess.go(0)
+        found = [ahead.go(0), ahead.go(1), guess.bring(0), is_changed(model, model), is_changed(model, ("model", 3, (), (), ())),
+                 is_chain(("chain", 2, ())), is_web(("web", ())), is_chain(("chain", 2, ((((), (), 0),),))),
+                 is_web(("web", ((((), 0, (1, 1)),),)))]
+        self.assertEqual({type(value) for value in found}, {bool})
 
 
 if __name__ == "__main__":
