@@ -64,9 +64,10 @@ def is_link(item, rows):
         return False
     loading = [row for row in rows if row[0] == "load"]
     unloading = [row for row in rows if row[0] == "unload"]
-    if len(loading) + len(unloading) < len(rows) or is_shared(loading) or is_shared(unloading):
+    if len(loading) + len(unloading) < len(rows):
         return False
-    return len(loading) > 0 and len(unloading) > 0
+    # Since there are several houses, one of them loads then and another one unloads.
+    return not is_shared(loading) and not is_shared(unloading)
 
 
 def breaks_rule(process, house, rows, many):

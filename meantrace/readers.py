@@ -1,11 +1,11 @@
-"""A place in the tokens of a text, that goes ahead as they are read."""
+"""A place in the tokens, or in the characters, of a text, that goes ahead as they are read."""
 
 from meantrace.errors import BadText
 from meantrace.names import DIGITS, is_name
 
 
 class Reader:
-    """Reads tokens one by one. Each token that fits nowhere is told by its number."""
+    """Reads tokens one by one. The first one that does not fit is told by its number."""
 
     def __init__(self, tokens):
         self.tokens = tokens

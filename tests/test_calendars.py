@@ -65,6 +65,24 @@ class Leaps(unittest.TestCase):
                      process w at 2 { use r rank 0 patience 9 { } else { } stop ; } cycle { }""")
         self.assertEqual(self.assert_leaps(model, 60), [0, 1, 2, 5, 11, 18, 27, 36, 45, 54])
 
+    def test_a_unit_ahead_of_the_end_of_patience_and_behind_it(self):
+        for units, patience, ticks in ((6, 9, [0, 6]), (6, 7, [0, 6]), (6, 6, [0, 6]), (6, 5, [0, 5]), (6, 1, [0, 1])):
+            model = body(f"use r rank 0 patience {patience} {{ stop ; }} else {{ mark a ; stop ; }}",
+                         f"resource r plan 0 for {units} , 1 for 9 ;")
+            self.assertEqual(self.assert_leaps(model, 20), ticks)
+
+    def test_a_limit_at_the_end_of_patience(self):
+        model = body("use r rank 0 patience 4 { } else { mark a ; stop ; }", "resource r plan 0 for 9 ;",
+                     "process q at 0 { use r rank 0 patience 6 { } else { mark b ; stop ; } } cycle { }")
+        run = calendar(model, ())
+        run.leap(1)
+        self.assertIsNone(run.leap(4))
+        self.assertEqual((run.clock, run.state[2][0][:2]), (4, ("asking", 0)))
+        self.assertEqual(lines(run.leap(9)[1]), "p leave r, p mark a, p stop")
+        self.assertIsNone(run.leap(6))
+        self.assertEqual(lines(run.leap(9)[1]), "q leave r, q mark b, q stop")
+        self.assertEqual(run.clock, 7)
+
     def test_plans_of_resources(self):
         model = body("use r rank 0 { hold 1 ; }", "resource r plan 0 for 9 , 0 for 7 , 2 for 1 ;",
                      "process q at 0 { use r rank 0 { hold 1 ; } use r rank 0 { } stop ; } cycle { }")

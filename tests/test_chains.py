@@ -44,6 +44,7 @@ class IsChain(unittest.TestCase):
                 self.assert_chain(base == other, base, tuple(((digit,), (), 0) for digit in range(other)))
 
     def test_the_digits(self):
+        self.assert_chain(True, 2, (((0,), (), 0), ((1,), (), 0)))
         for digit in (-1000, -1, 2, 1000):
             self.assert_chain(False, 2, (((0,), (), 0), ((digit,), (), 0)))
             self.assert_chain(False, 2, ((((0,), (), 0), ((1,), (), 0), ((digit,), (), 0))))
@@ -51,12 +52,17 @@ class IsChain(unittest.TestCase):
             self.assert_chain(False, 2, (((digit,), (), 0),))
 
     def test_the_order(self):
-        self.assert_chain(False, 2, ROW[::-1])
-        self.assert_chain(False, 2, (ROW[0], ROW[2], ROW[1]))
-        self.assert_chain(False, 2, (ROW[1], ROW[0], ROW[2]))
+        empty = (((), (), 0),)
+        self.assert_chain(True, 2, ROW, empty)
+        self.assert_chain(False, 2, ROW[::-1], empty)
+        self.assert_chain(False, 2, (ROW[0], ROW[2], ROW[1]), empty)
+        self.assert_chain(False, 2, (ROW[1], ROW[0], ROW[2]), empty)
+        self.assert_chain(False, 2, ROW, (((0,), (), 1), ((2,), (), 1), ((1,), (), 1)))
+        self.assert_chain(False, 2, (((1,), (), 0), ((0,), (), 0)))
 
     def test_complete_sets(self):
         empty = ((), (), 0)
+        self.assert_chain(True, 2, ROW, (empty,))
         self.assert_chain(False, 2, ROW[:2], (empty,))
         self.assert_chain(False, 2, ROW[1:], (empty,))
         self.assert_chain(False, 2, ROW[::2], (empty,))
@@ -69,6 +75,7 @@ class IsChain(unittest.TestCase):
         self.assert_chain(False, 2, (((0,), (), 0), ((0, 1), (), 0), ((1,), (), 0)))
 
     def test_nexts(self):
+        self.assert_chain(True, 2, ROW, (((), (), 1),))
         for target in (-1000, -2, -1, 2, 3, 1000):
             self.assert_chain(False, 2, (*ROW[:2], ((1, 1), (), target)), (((), (), 0),))
             self.assert_chain(False, 2, ROW, (((), (), target),))

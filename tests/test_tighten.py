@@ -97,6 +97,15 @@ class NotReached(unittest.TestCase):
             ("wait", 0), ("use", "r", 0, None, 3), ("stop",), ("mark", "a"), ("hold", 1), ("jump", 4),
         ))
 
+    def test_the_jump_of_an_empty_arm(self):
+        found = code("draw s { at 0 { } at 1 { mark a ; } }")
+        self.assertEqual(found, (
+            ("wait", 0), ("draw", "s", (2, 3)), ("jump", 4), ("mark", "a"), ("hold", 1), ("jump", 4),
+        ))
+        self.assertEqual(tightened(found), (
+            ("wait", 0), ("draw", "s", (3, 2)), ("mark", "a"), ("hold", 1), ("jump", 3),
+        ))
+
     def test_arms_that_all_stop(self):
         self.assertEqual(tightened(code("draw s { at 0 { stop ; } at 1 { end ; } }", "")), (
             ("wait", 0), ("draw", "s", (2, 3)), ("stop",), ("end",),
