@@ -251,7 +251,7 @@ class Classes(unittest.TestCase):
         self.assertEqual(self.methods & self.stored, set())
         self.assertEqual(self.properties & self.stored, set())
         self.assertEqual(self.methods & METHODS, set())
-        for kind in (str, int, list, dict, tuple, set):
+        for kind in (str, int, list, dict, tuple, set, bytes):
             self.assertEqual((self.methods - DOUBLE) & set(dir(kind)), set())
             self.assertEqual(self.stored & set(dir(kind)), set())
 
