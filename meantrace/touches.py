@@ -71,7 +71,8 @@ def statements_at(path, body):
     rows = {}
     for k, statement in enumerate(body):
         is_last = 1 if k + 1 == len(body) else 0
-        rows[(*path, (k, -1))] = ((outline(statement), is_last), names_in(statement))
+        here = (*path, (k, -1))
+        rows[here] = ((outline(statement), is_last), names_in(statement))
         for number, inner in enumerate(bodies_of(statement)):
             for place, told in statements_at((*path, (k, number)), inner).items():
                 rows[place] = told

@@ -186,6 +186,16 @@ class Modules(unittest.TestCase):
             if isinstance(node.value, str):
                 self.assertNotIn("%", node.value)
 
+    def test_no_star_in_an_index(self):
+        for name, node in nodes(ast.Subscript):
+            self.assertEqual([part for part in ast.walk(node.slice) if isinstance(part, ast.Starred)], [], name)
+
+    def test_stars_stand_in_literals_and_calls(self):
+        let = [part for _, node in nodes((ast.List, ast.Tuple)) for part in node.elts]
+        let += [part for _, node in nodes(ast.Call) for part in node.args]
+        for name, node in nodes(ast.Starred):
+            self.assertIn(node, let, name)
+
 
 class Names(unittest.TestCase):
     def test_names_have_no_second_meaning(self):
