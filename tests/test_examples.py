@@ -7,11 +7,15 @@ from meantrace.chainof import chain_of
 from meantrace.checks import check
 from meantrace.codes import code_of
 from meantrace.errors import BadText, Dry
+from meantrace.fairness import decide_plan
 from meantrace.plainruns import PlainRun
 from meantrace.plainvalues import write_value
 from meantrace.reading import read_model
 from meantrace.shares import make_fraction
 from meantrace.tapes import is_complete
+from meantrace.waiting import wait
+from meantrace.webs import web_of
+from meantrace.witnesses import witness
 from meantrace.writing import write_model
 
 
@@ -52,6 +56,17 @@ class Examples(unittest.TestCase):
     def test_chain(self):
         self.assertEqual(chain_of(('model', 2, ('s',), (), (('process', 'p', 0, (), (('draw', 's', (((0,), (('mark', 'a'),)), ((1,), ()))), ('hold', 1))),))),
                          ('chain', 2, ((((0,), ('a',), 1), ((1,), (), 1)), (((0,), ('a',), 1), ((1,), (), 1)))))
+
+    def test_wait(self):
+        self.assertEqual(wait(web_of(chain_of(('model', 2, ('s',), (), (('process', 'p', 0, (), (('draw', 's', (((0,), (('mark', 'a'),)), ((1,), ()))), ('hold', 1))),)))), 'a'),
+                         (((1, 1), (1, 1)), (1, 1), ((2, 1), (2, 1))))
+
+    def test_plans(self):
+        self.assertEqual(decide_plan(('plan', 2, 'g', (), ((1, 1),), ((((2, (2, 1), 0),),),))), ('unfair', (0,), (2, 1)))
+        self.assertEqual(decide_plan(('plan', 2, 'g', (), ((1, 1),), ((((1, (2, 1), 0),),),))),
+                         ('fair', ((((1, 1),),), ((((1, 1),),),))))
+        self.assertEqual(witness(('plan', 2, 'g', (), ((1, 1),), ((((2, (2, 1), 0),),),)), (0,)),
+                         ('model', 2, (), (), (('process', 'p', 0, (('hold', 1), ('mark', 'g')), ()),)))
 
 
 if __name__ == "__main__":

@@ -50,6 +50,23 @@ FUNCTIONS = {
     "chainof": {"states_of": "model", "chain_of": "model"},
     "leaves": {"tree": "chain n"},
     "webs": {"is_web": "web", "web_of": "chain"},
+    "reaching": {"reach_within": "web mark n", "reach": "web mark", "judge_reach": "web mark paper"},
+    "waiting": {"wait": "web mark", "judge_wait": "web mark paper"},
+    "gains": {
+        "worth_of": "worths shown", "shares_after": "web state n", "means": "web worths n", "gain": "web worths",
+        "judge_gain": "web worths paper",
+    },
+    "plans": {"is_plan": "plan", "letter_of": "plan shown", "vector_of": "plan letters", "value_of": "plan letters"},
+    "fairness": {"decide_plan": "plan", "judge_fair": "plan paper"},
+    "estimates": {
+        "estimate": "chain plan ticks tape coins", "plan_mean": "web plan ticks", "plan_square": "web plan ticks",
+    },
+    "forking": {"estimate_runs": "model plan ticks tape coins"},
+    "witnesses": {"witness": "plan letters"},
+    "bends": {
+        "is_bend": "web bend", "bent_web": "web bend", "bent_walk": "web bend goal tickets",
+        "bent_mean": "web bend goal n", "bent_square": "web bend goal n",
+    },
 }
 METHODS = {
     ("errors", "BadText"): {"__init__": "self at"},
@@ -230,6 +247,49 @@ class Interface(unittest.TestCase):
         found = [ahead.go(0), ahead.go(1), guess.bring(0), is_changed(model, model), is_changed(model, ("model", 3, (), (), ())),
                  is_chain(("chain", 2, ())), is_web(("web", ())), is_chain(("chain", 2, ((((), (), 0),),))),
                  is_web(("web", ((((), 0, (1, 1)),),)))]
+        self.assertEqual({type(value) for value in found}, {bool})
+
+    def test_values_of_webs_and_plans_are_tuples(self):
+        from helpers import EXAMPLE
+        from meantrace.bends import bent_mean, bent_square, bent_walk, bent_web
+        from meantrace.chainof import chain_of
+        from meantrace.estimates import estimate, plan_mean, plan_square
+        from meantrace.fairness import decide_plan
+        from meantrace.forking import estimate_runs
+        from meantrace.gains import gain, means, shares_after, worth_of
+        from meantrace.plans import letter_of, value_of, vector_of
+        from meantrace.reaching import reach, reach_within
+        from meantrace.waiting import wait
+        from meantrace.webs import web_of
+        from meantrace.witnesses import witness
+        chain = chain_of(EXAMPLE)
+        web, worths = web_of(chain), (("a", 3),)
+        plan = ("plan", 2, "g", ("a",), ((1, 1), (1, 2)), ((((1, (2, 1), 0),), ((2, (2, 1), 1),)),) * 2)
+        bend = ((1, 2), (0, 3))
+        rows = [reach_within(web, "a", 2), reach(web, "a"), wait(web, "a"), worth_of(worths, ("a",)), shares_after(web, 0, 1),
+                means(web, worths, 2), gain(web, worths), letter_of(plan, ()), vector_of(plan, (0,)), value_of(plan, (1,)),
+                decide_plan(plan), decide_plan((*plan[:4], ((2, 1), (1, 1)), plan[5])), estimate(chain, plan, 2, (1, 1), (0,)),
+                plan_mean(web, plan, 3), plan_square(web, plan, 3), estimate_runs(EXAMPLE, plan, 2, (1, 1), (0,)),
+                witness(plan, (0, 1)), bent_web(web, bend), bent_walk(web, bend, "a", (0, 1)), bent_walk(web, bend, "z", (0,)),
+                bent_mean(web, bend, "a", 2), bent_square(web, bend, "a", 2)]
+        self.assertEqual({type(row) for row in rows}, {tuple, int})
+        self.assert_plain(rows)
+
+    def test_judges_of_webs_and_plans_return_bools(self):
+        from meantrace.bends import is_bend
+        from meantrace.fairness import judge_fair
+        from meantrace.gains import judge_gain
+        from meantrace.plans import is_plan
+        from meantrace.reaching import judge_reach
+        from meantrace.waiting import judge_wait
+        web = ("web", (((("a",), 0, (1, 1)),),))
+        plan = ("plan", 2, "g", (), ((1, 1),), ((((2, (1, 1), 0),),),))
+        one = (1, 1)
+        found = [judge_reach(web, "a", ((one,), (1,))), judge_reach(web, "a", ((), ())), judge_wait(web, "a", ((one,), (1,), (one,))),
+                 judge_wait(web, "a", ((), (), ())), judge_gain(web, (), ((0, 1), ((0, 1),))), judge_gain(web, (), (one, ())),
+                 is_plan(plan), is_plan((*plan[:4], (), ())), judge_fair(plan, (((one,),), (((one,),),))), judge_fair(plan, ((), ())),
+                 is_bend(web, ((1,),)), is_bend(web, ((0,),)), is_bend(web, ())]
+        self.assertEqual(found, [True, False] * 6 + [False])
         self.assertEqual({type(value) for value in found}, {bool})
 
 
