@@ -23,3 +23,19 @@ def turned(nexts):
         for target in targets:
             sources[target].append(state)
     return sources
+
+
+def longest(nexts):
+    """For each state how many states the longest walk from there has, 0 if it need not end."""
+    found = [0 for _ in nexts]
+    many = 0
+    fresh = list(range(len(nexts)))
+    while fresh:
+        many += 1
+        fresh = [
+            state for state, targets in enumerate(nexts)
+            if found[state] == 0 and all([found[target] > 0 for target in targets])
+        ]
+        for state in fresh:
+            found[state] = many
+    return found

@@ -42,3 +42,21 @@ def total_of(fractions):
 def is_less(a, b):
     """Whether the fraction a is less than the fraction b."""
     return a[0] * b[1] < b[0] * a[1]
+
+
+def least_of(fractions):
+    """The least of some fractions."""
+    least = fractions[0]
+    for fraction in fractions:
+        if is_less(fraction, least):
+            least = fraction
+    return least
+
+
+def greatest_of(fractions):
+    """The greatest of some fractions."""
+    greatest = fractions[0]
+    for fraction in fractions:
+        if is_less(greatest, fraction):
+            greatest = fraction
+    return greatest

@@ -1,7 +1,8 @@
 """Vectors that are sums of multiples of others, and tables that close."""
 
 from meantrace.equations import whole_row, without
-from meantrace.shares import make_fraction, product_of, total_of
+from meantrace.shares import make_fraction
+from meantrace.sums import denominator_of, times
 
 
 class Span:
@@ -86,9 +87,10 @@ class Table:
             return False
         if not all([len(step) == len(vectors) for row in steps for step in row]):
             return False
+        mixer = Mixer(vectors)
         for vector, row in zip(vectors, steps):
             for letter, step in enumerate(row):
-                if mixed_of(vectors, step) != self.behind(vector, letter):
+                if mixer.mixed(step) != self.behind(vector, letter):
                     return False
         return True
 
@@ -101,9 +103,16 @@ def paper_of(vectors, steps):
     return (tuple(vectors), tuple(rows))
 
 
-def mixed_of(vectors, step):
-    """The sum of the vectors, each multiplied by its fraction."""
-    return tuple(
-        total_of([product_of(vector[place], part) for vector, part in zip(vectors, step)])
-        for place in range(len(vectors[0]))
-    )
+class Mixer:
+    """Sums of multiples of some vectors, which all have one denominator here."""
+
+    def __init__(self, vectors):
+        self.below = denominator_of([part for vector in vectors for part in vector])
+        self.columns = [[times(vector[place], self.below) for vector in vectors] for place in range(len(vectors[0]))]
+
+    def mixed(self, step):
+        """The sum of the vectors, each multiplied by its fraction."""
+        under = denominator_of(step)
+        used = [(at, times(fraction, under)) for at, fraction in enumerate(step) if fraction[0] != 0]
+        below = self.below * under
+        return tuple(make_fraction(sum([column[at] * number for at, number in used]), below) for column in self.columns)

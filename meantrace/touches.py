@@ -93,4 +93,4 @@ def makes_touch(ticker, changed):
 
 def path_of(walker):
     """The path at which a process is."""
-    return tuple((k, number) for k, number, _ in walker.place)
+    return tuple((k, number) for k, number, _ in walker.entries)

@@ -14,20 +14,20 @@ class Walker(Goer):
     def __init__(self, number, process, point):
         mode, left, place = point
         super().__init__(number, process[1], mode, left)
-        self.place = list(place)
+        self.entries = list(place)
         self.trail = trail_of(process, place)
         self.look()
 
     def look(self):
         """Find the statement at which the process is."""
-        if self.place:
-            self.statement = self.trail[-1][self.place[-1][0]]
+        if self.entries:
+            self.statement = self.trail[-1][self.entries[-1][0]]
         else:
             self.statement = None
 
     def point(self):
         """The point of the process in a state."""
-        return (self.mode, self.left, tuple(self.place))
+        return (self.mode, self.left, tuple(self.entries))
 
     def wake_up(self):
         """Go on from a `hold`, or begin."""
@@ -62,7 +62,7 @@ class Walker(Goer):
 
     def go_on(self):
         """Go on from the statement."""
-        self.place[-1] = (self.place[-1][0] + 1, -1, 0)
+        self.entries[-1] = (self.entries[-1][0] + 1, -1, 0)
         return self.settle()
 
     def enter(self, number, turns):
@@ -72,24 +72,24 @@ class Walker(Goer):
 
     def push(self, number, turns):
         """Come to the beginning of a body of the statement told by the last entry."""
-        k = self.place[-1][0]
-        self.place[-1] = (k, number, turns)
+        k = self.entries[-1][0]
+        self.entries[-1] = (k, number, turns)
         self.trail.append(body_of(self.trail[-1][k], number))
-        self.place.append((0, -1, 0))
+        self.entries.append((0, -1, 0))
 
     def settle(self):
         """Leave all bodies that have ended; then be ready, or done."""
         given = []
-        while self.place and self.place[-1][0] == len(self.trail[-1]):
+        while self.entries and self.entries[-1][0] == len(self.trail[-1]):
             given.extend(self.end_body())
-        self.wait("ready" if self.place else "done", 0)
+        self.wait("ready" if self.entries else "done", 0)
         self.look()
         return given
 
     def end_body(self):
         """Leave the innermost body, which has ended."""
         self.come_out()
-        k, number, turns = self.place[-1]
+        k, number, turns = self.entries[-1]
         statement = self.trail[-1][k]
         word = statement[0]
         if word == "process":
@@ -97,7 +97,7 @@ class Walker(Goer):
         elif word == "loop" and turns > 0:
             self.push(0, turns - 1)
         else:
-            self.place[-1] = (k + 1, -1, 0)
+            self.entries[-1] = (k + 1, -1, 0)
             if word == "use" and number == 0:
                 return [statement[1]]
         return []
@@ -111,44 +111,44 @@ class Walker(Goer):
 
     def come_out(self):
         """Leave a body, or the whole process."""
-        self.place.pop()
+        self.entries.pop()
         self.trail.pop()
 
     def break_out(self):
         """Leave the innermost `guard` in whose first body the process is, for its handler."""
         given = []
         self.come_out()
-        while not self.is_in_first_body(len(self.place) - 1, "guard"):
-            if self.is_in_first_body(len(self.place) - 1, "use"):
-                given.append(self.statement_at(len(self.place) - 1)[1])
+        while not self.is_in_first_body(len(self.entries) - 1, "guard"):
+            if self.is_in_first_body(len(self.entries) - 1, "use"):
+                given.append(self.statement_at(len(self.entries) - 1)[1])
             self.come_out()
         return given + self.enter(1, 0)
 
     def finish(self):
         """Give all units back and be done."""
         given = self.held_units()
-        self.place = []
+        self.entries = []
         self.trail = []
         self.settle()
         return given
 
     def held_units(self):
         """The names of the resources of which the process has a unit, innermost first."""
-        entries = range(len(self.place) - 1, -1, -1)
+        entries = range(len(self.entries) - 1, -1, -1)
         return [self.statement_at(at)[1] for at in entries if self.is_in_first_body(at, "use")]
 
     def is_guarded(self):
         """Whether the process is in the first body of a `guard`."""
-        entries = range(len(self.place))
+        entries = range(len(self.entries))
         return any([self.is_in_first_body(at, "guard") for at in entries])
 
     def is_in_first_body(self, at, word):
         """Whether the entry with this number tells the first body of a statement with this word."""
-        return self.place[at][1] == 0 and self.statement_at(at)[0] == word
+        return self.entries[at][1] == 0 and self.statement_at(at)[0] == word
 
     def statement_at(self, at):
         """The statement that the entry with this number tells."""
-        return self.trail[at][self.place[at][0]]
+        return self.trail[at][self.entries[at][0]]
 
 
 def trail_of(process, place):

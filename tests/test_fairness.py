@@ -232,6 +232,18 @@ class Judge(unittest.TestCase):
         self.assert_taken(False, ((ONE,),), ((((2, 1),),),), off)
         self.assert_taken(False, ((ONE,), (ONE,)), (((ONE, ONE),), ((ONE, ONE),)), off)
 
+    def test_one_step_of_several_whose_sum_is_not_1(self):
+        plan = ("plan", 2, "g", ("a",), (ONE,), ((((2, ONE, 0),), ((2, (2, 1), 0),)),))
+        self.assert_taken(False, ((ONE,),), (((ONE,), ((2, 1),)),), plan)
+        plan = ("plan", 2, "g", ("a",), (ONE,), ((((2, HALF, 0),), ((2, ONE, 0),)),))
+        self.assert_taken(False, ((ONE,),), (((HALF,), (ONE,)),), plan)
+
+    def test_vectors_whose_value_is_not_1(self):
+        keep = ((((2, ONE, 0),),),)  # one stage, one letter, one copy
+        self.assert_taken(True, ((ONE,),), (((ONE,),),), ("plan", 2, "g", (), (ONE,), keep))
+        for score in ((2, 1), NONE, HALF, (-1, 1)):
+            self.assert_taken(False, ((ONE,),), (((ONE,),),), ("plan", 2, "g", (), (score,), keep))
+
     def test_unfair_plans_have_no_paper(self):
         dice = random.Random(471)
         for _ in range(100):

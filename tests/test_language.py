@@ -28,7 +28,7 @@ UNUSED = set(
     "locals methodcaller os quit setattr type vars sys format format_map _cold _tuplegetter _outside _record "
     "_written_out _member_names".split()
 )
-DOUBLE = {"__init__", "__enter__", "__exit__"}
+DOUBLE = {"__init__", "__enter__", "__exit__", "__call__"}
 WORDS = ("typing", "enum", "dataclass", "overload", "contextmanager", "namedtuple", "_wall", "_WallAttr")
 STATEMENTS = (
     ast.Assign, ast.AugAssign, ast.If, ast.While, ast.For, ast.Return, ast.Break, ast.Continue, ast.Pass,
