@@ -52,9 +52,8 @@ def lumps(web):
 
 def judge_lumps(web, groups):
     """Whether a grouping is numbered as told, and the states of each group agree over it."""
-    if len(groups) != len(web[1]) or numbered(groups) != groups:
-        return False
-    return finer(web, groups) == groups
+    # A finer grouping is always numbered as told.
+    return len(groups) == len(web[1]) and finer(web, groups) == groups
 
 
 def lumped(web, groups):

@@ -104,15 +104,20 @@ def paper_of(vectors, steps):
 
 
 class Mixer:
-    """Sums of multiples of some vectors, which all have one denominator here."""
+    """Sums of multiples of some vectors; the parts at each place have one denominator here."""
 
     def __init__(self, vectors):
-        self.below = denominator_of([part for vector in vectors for part in vector])
-        self.columns = [[times(vector[place], self.below) for vector in vectors] for place in range(len(vectors[0]))]
+        self.columns = []
+        for place in range(len(vectors[0])):
+            parts = [vector[place] for vector in vectors]
+            below = denominator_of(parts)
+            self.columns.append((below, [times(part, below) for part in parts]))
 
     def mixed(self, step):
         """The sum of the vectors, each multiplied by its fraction."""
         under = denominator_of(step)
         used = [(at, times(fraction, under)) for at, fraction in enumerate(step) if fraction[0] != 0]
-        below = self.below * under
-        return tuple(make_fraction(sum([column[at] * number for at, number in used]), below) for column in self.columns)
+        return tuple(
+            make_fraction(sum([column[at] * number for at, number in used]), below * under)
+            for below, column in self.columns
+        )

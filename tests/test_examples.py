@@ -1,10 +1,11 @@
-"""The examples of the document for the modules that are there."""
+"""The examples of the document."""
 
 import unittest
 
 from meantrace.batches import warm_up
 from meantrace.chainof import chain_of
 from meantrace.checks import check
+from meantrace.claims import decide
 from meantrace.codes import code_of
 from meantrace.errors import BadText, Dry
 from meantrace.fairness import decide_plan
@@ -14,6 +15,7 @@ from meantrace.reading import read_model
 from meantrace.shares import make_fraction
 from meantrace.tapes import is_complete
 from meantrace.waiting import wait
+from meantrace.watches import never, order
 from meantrace.webs import web_of
 from meantrace.witnesses import witness
 from meantrace.writing import write_model
@@ -67,6 +69,11 @@ class Examples(unittest.TestCase):
                          ('fair', ((((1, 1),),), ((((1, 1),),),))))
         self.assertEqual(witness(('plan', 2, 'g', (), ((1, 1),), ((((2, (2, 1), 0),),),)), (0,)),
                          ('model', 2, (), (), (('process', 'p', 0, (('hold', 1), ('mark', 'g')), ()),)))
+
+    def test_claims(self):
+        self.assertEqual(order('a', 'b'), ('watch', ((('a', 1), ('b', 2), (None, 0)), ((None, 1),), ((None, 2),)), (2,)))
+        self.assertEqual(decide(chain_of(('model', 2, ('s',), (), (('process', 'p', 0, (), (('draw', 's', (((0,), (('mark', 'a'),)), ((1,), ()))), ('hold', 1))),))), never('a')),
+                         ('breaks', ((0,),)))
 
 
 if __name__ == "__main__":

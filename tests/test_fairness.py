@@ -6,6 +6,7 @@ import unittest
 from fractions import Fraction
 
 from random_webs import fair_plan, frac, random_plan
+from walks_reference import multiples
 
 from meantrace.fairness import decide_plan, judge_fair
 from meantrace.plans import is_plan, value_of, vector_of
@@ -29,22 +30,6 @@ def first_unfair(plan):
         if value_of(plan, row) != ONE:
             return row
     return None
-
-
-def multiples(vectors, target):
-    """By what vectors are multiplied in a sum that is the target, or None; the vectors are no sums of each other."""
-    rows = [[frac(vector[place]) for vector in vectors] + [frac(target[place])] for place in range(len(target))]
-    done = []
-    for column in range(len(vectors)):
-        pivot = next(row for row in rows if row not in done and row[column] != 0)
-        done.append(pivot)
-        pivot[:] = [part / pivot[column] for part in pivot]
-        for row in rows:
-            if row is not pivot and row[column] != 0:
-                row[:] = [part - row[column] * other for part, other in zip(row, pivot)]
-    if any(row[-1] != 0 for row in rows if not any(row is other for other in done)):
-        return None
-    return tuple((row[-1].numerator, row[-1].denominator) for row in done)
 
 
 def expected_paper(plan):

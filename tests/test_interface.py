@@ -67,6 +67,18 @@ FUNCTIONS = {
         "is_bend": "web bend", "bent_web": "web bend", "bent_walk": "web bend goal tickets",
         "bent_mean": "web bend goal n", "bent_square": "web bend goal n",
     },
+    "gaps": {"gap": "web bend goal", "best_bend": "web goal"},
+    "pairs": {"pair_chain": "left right flip", "pairs_of": "left right flip"},
+    "spreads": {"both": "left right flip goal n", "spreads": "left right flip goal n"},
+    "watches": {"is_watch": "watch", "never": "mark", "within": "cause effect n", "order": "first second"},
+    "claims": {"decide": "chain watch", "judge_holds": "chain watch pairs", "judge_breaks": "chain watch blocks"},
+    "latest": {"latest": "chain mark", "judge_ranks": "chain mark ranks", "judge_ring": "chain mark paper"},
+    "rates": {"greatest": "chain worths n", "rate": "chain worths", "judge_rate": "chain worths paper"},
+    "likeness": {"chance_of": "web row", "alike": "web other", "judge_alike": "web other paper"},
+    "lumps": {"rounds": "web", "lumps": "web", "judge_lumps": "web groups", "lumped": "web groups"},
+    "loose": {
+        "is_loose": "loose", "bounds": "loose goal n", "loosen": "web groups", "judge_within": "web loose places",
+    },
 }
 METHODS = {
     ("errors", "BadText"): {"__init__": "self at"},
@@ -106,11 +118,13 @@ METHODS = {
         "__init__": "self model tapes every", "trace_to": "self n", "change": "self model", "redraw": "self tapes",
         "known": "self", "work": "self",
     },
+    ("watches", "Watcher"): {"__init__": "self watch", "__call__": "self shown", "place": "self", "broken": "self"},
 }
 PROPERTIES = {
     "PlainRun": ("clock", "reads", "state", "snapshot"), "FlatRun": ("clock", "reads", "state", "snapshot"),
     "CalendarRun": ("clock", "reads", "snapshot"), "AheadRun": ("clocks", "final"),
     "GuessRun": ("clocks", "under_way", "final"), "KeptRun": ("known", "work"),
+    "Watcher": ("place", "broken"),
 }
 
 
@@ -150,7 +164,8 @@ class Interface(unittest.TestCase):
         from meantrace.guesses import GuessRun
         from meantrace.keeping import KeptRun
         from meantrace.plainruns import PlainRun
-        for kind in (PlainRun, FlatRun, CalendarRun, AheadRun, GuessRun, KeptRun):
+        from meantrace.watches import Watcher
+        for kind in (PlainRun, FlatRun, CalendarRun, AheadRun, GuessRun, KeptRun, Watcher):
             for name in PROPERTIES[kind.__name__]:
                 self.assertIsInstance(vars(kind)[name], property)
         for kind in (PlainRun, FlatRun, CalendarRun):
@@ -290,6 +305,57 @@ class Interface(unittest.TestCase):
                  is_plan(plan), is_plan((*plan[:4], (), ())), judge_fair(plan, (((one,),), (((one,),),))), judge_fair(plan, ((), ())),
                  is_bend(web, ((1,),)), is_bend(web, ((0,),)), is_bend(web, ())]
         self.assertEqual(found, [True, False] * 6 + [False])
+        self.assertEqual({type(value) for value in found}, {bool})
+
+    def test_values_of_claims_and_likeness_are_tuples(self):
+        from helpers import EXAMPLE
+        from meantrace.chainof import chain_of
+        from meantrace.claims import decide
+        from meantrace.gaps import best_bend, gap
+        from meantrace.latest import latest
+        from meantrace.likeness import alike, chance_of
+        from meantrace.loose import bounds, loosen
+        from meantrace.lumps import lumped, lumps, rounds
+        from meantrace.pairs import pair_chain, pairs_of
+        from meantrace.rates import greatest, rate
+        from meantrace.spreads import both, spreads
+        from meantrace.watches import Watcher, never, order, within
+        from meantrace.webs import web_of
+        chain = chain_of(EXAMPLE)
+        web, worths = web_of(chain), (("a", 3),)
+        groups = lumps(web)
+        other = ("web", ((((), 0, (1, 3)), (("a",), 0, (2, 3))),))
+        watcher = Watcher(never("a"))
+        rows = [gap(web, ((1, 0), (1, 1)), "a"), best_bend(web, "a"), pair_chain(chain, chain, 1), pairs_of(chain, chain, 0),
+                both(chain, chain, 1, "a", 2), spreads(chain, chain, 1, "a", 2), never("a"), within("a", "b", 2), order("a", "b"),
+                watcher.place, watcher(("a",)), watcher.place, decide(chain, never("a")), decide(chain, never("b")), latest(chain, "a"),
+                latest(("chain", 2, ((((), ("a",), 0),),)), "a"), greatest(chain, worths, 3), rate(chain, worths), chance_of(web, ((),)),
+                alike(web, web), alike(web, other), rounds(web), groups, lumped(web, groups), loosen(web, groups),
+                bounds(loosen(web, groups), "a", 3)]
+        self.assertEqual({type(row) for row in rows}, {tuple, int})
+        self.assert_plain(rows)
+        self.assertIsNone(gap(web, ((1, 1), (1, 1)), "a"))
+
+    def test_judges_of_claims_and_likeness_return_bools(self):
+        from meantrace.claims import judge_breaks, judge_holds
+        from meantrace.latest import judge_ranks, judge_ring
+        from meantrace.likeness import judge_alike
+        from meantrace.loose import is_loose, judge_within
+        from meantrace.lumps import judge_lumps
+        from meantrace.rates import judge_rate
+        from meantrace.watches import Watcher, is_watch, never
+        chain = ("chain", 2, ((((), ("a",), 0),),))
+        web = ("web", (((("a",), 0, (1, 1)),),))
+        loose = ("loose", (((("a",), 0, (0, 1), (1, 1)),),))
+        one, none = (1, 1), (0, 1)
+        found = [judge_holds(chain, never("b"), ((0, 0),)), judge_holds(chain, never("b"), ()),
+                 judge_breaks(chain, never("a"), ((),)), judge_breaks(chain, never("a"), ((0,),)), judge_ranks(chain, "a", (1,)),
+                 judge_ranks(chain, "a", ()), judge_ring(chain, "b", ((), ((),))), judge_ring(chain, "b", ((), ())),
+                 judge_rate(chain, (), (none, (none,), (), ((),))), judge_rate(chain, (), (none, (), (), ())),
+                 judge_alike(web, web, (((one, one),), (((one,),),))), judge_alike(web, web, ((), ())), judge_lumps(web, (0,)),
+                 judge_lumps(web, ()), is_loose(loose), is_loose(("loose", ())), judge_within(web, loose, (0,)), judge_within(web, loose, ()),
+                 is_watch(never("a")), is_watch(("watch", (), ())), Watcher((*never("a")[:2], (0,))).broken, Watcher(never("a")).broken]
+        self.assertEqual(found, [True, False] * 11)
         self.assertEqual({type(value) for value in found}, {bool})
 
 

@@ -80,3 +80,27 @@ def closed_classes(web):
         if all(can_come_to(web, other) == members for other in members) and sorted(members) not in found:
             found.append(sorted(members))
     return sorted(found)
+
+
+def multiples(vectors, target):
+    """By what vectors are multiplied in a sum that is the target, or None; the vectors are no sums of each other."""
+    rows = [[frac(vector[place]) for vector in vectors] + [frac(target[place])] for place in range(len(target))]
+    done = []
+    for column in range(len(vectors)):
+        pivot = next(row for row in rows if row not in done and row[column] != 0)
+        done.append(pivot)
+        pivot[:] = [part / pivot[column] for part in pivot]
+        for row in rows:
+            if row is not pivot and row[column] != 0:
+                row[:] = [part - row[column] * other for part, other in zip(row, pivot)]
+    if any(row[-1] != 0 for row in rows if not any(row is other for other in done)):
+        return None
+    return tuple((row[-1].numerator, row[-1].denominator) for row in done)
+
+
+def all_groupings(many):
+    """All groupings of so many states, numbered as they first stand."""
+    found = [()]
+    for _ in range(many):
+        found = [(*groups, group) for groups in found for group in range(max(groups, default=-1) + 2)]
+    return found
