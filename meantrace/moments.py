@@ -25,27 +25,25 @@ class Moments:
 
     def go_back(self):
         """The moments for one tick more."""
+        states = range(len(self.arcs))
+        behind = [[[self.moments_behind(entries, state) for state in states] for entries in row] for row in self.lists]
         rows = []
         for arcs in self.arcs:
-            rows.append([self.moments_of(arcs, stage) for stage in range(len(self.worths))])
+            rows.append([self.moments_of(arcs, worth, table) for worth, table in zip(self.worths, behind)])
         self.means = [[mean for mean, _ in row] for row in rows]
         self.squares = [[square for _, square in row] for row in rows]
         self.worths = [worth * self.under * self.below for worth in self.worths]
         self.unit = self.unit * self.under * self.below
 
-    def moments_of(self, arcs, stage):
-        """The moments of a copy ahead of a tick, by those behind it."""
+    def moments_of(self, arcs, worth, table):
+        """The moments of a copy ahead of a tick, by what it scores and a table of those behind it."""
         mean = 0
         square = 0
-        score = self.worths[stage] * self.under
+        score = worth * self.under
         for letter, target, share in arcs:
-            if letter is None:
-                mean += share * score
-                square += share * score * score
-            else:
-                first, second = self.moments_behind(self.lists[stage][letter], target)
-                mean += share * first
-                square += share * second
+            first, second = (score, score * score) if letter is None else table[letter][target]
+            mean += share * first
+            square += share * second
         return (mean, square * self.below)
 
     def moments_behind(self, entries, target):
