@@ -99,7 +99,11 @@ def paper_of(vectors, steps):
     """The vectors and steps as tuples, each step with a fraction for each vector."""
     rows = []
     for told in steps:
-        rows.append(tuple((*step, *[(0, 1)] * (len(vectors) - len(step))) for step in told))
+        row = []
+        for step in told:
+            missing = len(vectors) - len(step)
+            row.append(tuple(step + [(0, 1)] * missing))
+        rows.append(tuple(row))
     return (tuple(vectors), tuple(rows))
 
 
